@@ -1,0 +1,1 @@
+"""Withincall: networks of stages that advance and roll back."""
