@@ -1,6 +1,8 @@
 """What the tests share."""
 
+import itertools
 import random
+import time
 import unittest
 
 from withincall.nets import Pipeline, Ring
@@ -10,8 +12,26 @@ from withincall.nets import Pipeline, Ring
 NEVER_NUMBERS = (-1, -2, True, False, None, "0", "", 0.0, 1.0, (0,), [0], b"0", 10 ** 5000)
 
 
+# No move of any net.
+NEVER_MOVES = (
+    None, True, 0, "advance", "+0", b"+0", (), (0,), ("advance",), (0, "advance", 1), (0, "advance", "done"),
+    [0, "advance"], {0: "advance"}, ("advance", 0), (0, 0), (0, None), (0, True), (0, ("advance",)),
+    (0, ["advance"]), (0, "Advance"), (0, "advance "), (0, "advanc"), (0, ""), (0, "roll back"),
+    (0, b"advance"), (0, "done"), (True, "advance"), (False, "rollback"), (None, "advance"),
+    ("0", "advance"), (0.0, "advance"), ((0,), "advance"), ([0], "advance"), (-1, "advance"),
+    (-1, "rollback"), (10 ** 5000, "advance"), ((0, "advance"),), ((0, "advance"), (0, "advance")))
+KINDS = ("advance", "rollback")
+
+
 class Case(unittest.TestCase):
     """A test case that can ask for an error with its attributes."""
+
+    def quick(self, call, *args, **named):
+        """The result of the call, which must take a few seconds at most, even on a slow machine."""
+        begun = time.process_time()
+        result = call(*args, **named)
+        self.assertLess(time.process_time() - begun, 5)
+        return result
 
     def fails(self, error, attributes, call, *args, **named):
         """The call raises exactly this error, with exactly these attributes and values."""
@@ -52,3 +72,61 @@ def random_nets():
 def random_state(chance, net, most=6):
     """A state of the net with counters up to the given one."""
     return tuple([chance.randint(0, most) for _ in range(net.stages)])
+
+
+def small_net(chance):
+    """A net that is so small that all states with small counters can be gone through."""
+    if chance.random() < 0.35:
+        return Ring(*[chance.randint(1, 3) for _ in range(chance.choice((3, 3, 4)))])
+    stages = chance.randint(1, 4)
+    order = chance.sample(range(stages), stages)
+    pairs = [(order[low], order[high]) for high in range(stages) for low in range(high)]
+    chosen = [pair for pair in pairs if chance.random() < 0.65]
+    return Pipeline(stages, *[(*pair, chance.randint(1, 3)) for pair in chosen])
+
+
+def all_states(net, most):
+    """All states of the net with counters up to the given one, in ascending order."""
+    return list(itertools.product(range(most + 1), repeat=net.stages))
+
+
+def moves_of(net):
+    """All moves of the net in ascending order."""
+    return [(stage, kind) for stage in range(net.stages) for kind in KINDS]
+
+
+def may_be_made(net, state, move):
+    """Whether the move is allowed, by the words of point 12."""
+    stage, kind = move
+    end = 1 if kind == "advance" else 0
+    side = [channel for channel in net.channels if channel[end] == stage]
+    return side != [] and all(1 <= state[a] - state[b] <= capacity for a, b, capacity in side)
+
+
+def behind(state, move):
+    """The state behind the move."""
+    counters = list(state)
+    counters[move[0]] += 1 if move[1] == "advance" else -1
+    return tuple(counters)
+
+
+def search(net, start):
+    """All states to which runs from the start lead, with their distances."""
+    found = {start: 0}
+    waiting = [start]
+    for state in waiting:
+        for move in moves_of(net):
+            if may_be_made(net, state, move):
+                after = behind(state, move)
+                if after not in found:
+                    found[after] = found[state] + 1
+                    waiting.append(after)
+    return found
+
+
+def long_net(many=120, capacity=999):
+    """A pipeline of 40 stages in a row, with more channels beside the row."""
+    row = [(stage, stage + 1) for stage in range(39)]
+    others = [(stage, stage + gap) for gap in range(2, 40) for stage in range(40 - gap)]
+    channels = row + others[:many - len(row)]
+    return Pipeline(40, *channels, capacity=capacity)

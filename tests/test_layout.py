@@ -1,21 +1,35 @@
 """What the interface and the rules of the language ask of the files of the package."""
 
 import ast
+import importlib
+import inspect
 import pathlib
 import unittest
 
-from withincall import nets, states
+from withincall import moves, nets
 
 FOLDER = pathlib.Path(__file__).resolve().parent.parent / "withincall"
 
-METHODS = {
-    "Net": ("is_capacity", "slots", "incoming", "outgoing", "upstream", "downstream",
-            "without", "summary", "__eq__"),
-    "Pipeline": ("__init__", "row", "is_ring", "resized", "mirrored", "summary"),
-    "Ring": ("__init__", "is_ring", "resized", "mirrored", "summary"),
+# The classes of the interface with the methods listed for them, and the functions, file by file.
+CLASSES = {
+    "nets": {
+        "Net": ("is_capacity", "slots", "incoming", "outgoing", "upstream", "downstream",
+                "without", "summary", "__eq__"),
+        "Pipeline": ("__init__", "row", "is_ring", "resized", "mirrored", "summary"),
+        "Ring": ("__init__", "is_ring", "resized", "mirrored", "summary"),
+    },
 }
-FUNCTIONS = ("check_state", "load", "condition", "loads", "conditions", "holders", "orphans",
-             "is_clean", "mirror_state")
+FUNCTIONS = {
+    "states": ("check_state", "load", "condition", "loads", "conditions", "holders", "orphans",
+               "is_clean", "mirror_state"),
+    "moves": ("check_move", "check_log", "opposite", "mirror_move", "allowed_moves", "can_move",
+              "blockers", "make", "run_moves", "trace"),
+    "texts": ("write_net", "write_state", "write_moves", "read_net", "read_state", "read_moves",
+              "channel_table"),
+    "reach": ("objections", "is_objection", "reaches", "distance", "first_moves", "safe_moves",
+              "plan", "is_plan"),
+    "sightings": ("first_break", "longest_story", "story_cost"),
+}
 LIBRARY = ("__future__", "heapq", "math", "itertools", "collections")
 
 
@@ -26,11 +40,13 @@ def source_files():
 class TestInterface(unittest.TestCase):
 
     def test_each_class_stands_in_its_file_with_its_methods(self):
-        for name, methods in METHODS.items():
-            found = getattr(nets, name)
-            self.assertEqual(found.__module__, "withincall.nets")
-            for method in methods:
-                self.assertIn(method, vars(found), f"{name}.{method}")
+        for file, classes in CLASSES.items():
+            module = importlib.import_module(f"withincall.{file}")
+            for name, methods in classes.items():
+                found = getattr(module, name)
+                self.assertEqual(found.__module__, f"withincall.{file}")
+                for method in methods:
+                    self.assertIn(method, vars(found), f"{name}.{method}")
 
     def test_kinds_of_methods(self):
         self.assertIsInstance(vars(nets.Net)["is_capacity"], staticmethod)
@@ -42,8 +58,13 @@ class TestInterface(unittest.TestCase):
         self.assertEqual(nets.Ring.__bases__, (nets.Net,))
 
     def test_each_function_stands_in_its_file(self):
-        for name in FUNCTIONS:
-            self.assertEqual(getattr(states, name).__module__, "withincall.states")
+        for file, names in FUNCTIONS.items():
+            module = importlib.import_module(f"withincall.{file}")
+            for name in names:
+                self.assertEqual(getattr(module, name).__module__, f"withincall.{file}")
+
+    def test_generators(self):
+        self.assertTrue(inspect.isgeneratorfunction(moves.trace))
 
 
 class TestFiles(unittest.TestCase):
@@ -76,3 +97,21 @@ class TestFiles(unittest.TestCase):
                     self.assertEqual(node.level, 0)
                     allowed = node.module.startswith("withincall.") or node.module in LIBRARY
                     self.assertTrue(allowed, f"{path.name}: {node.module}")
+
+    def test_no_generator_expressions_and_no_percent_signs(self):
+        for path in source_files():
+            for node in ast.walk(ast.parse(path.read_text())):
+                self.assertNotIsInstance(node, ast.GeneratorExp, path.name)
+                if isinstance(node, ast.Constant) and isinstance(node.value, str):
+                    self.assertNotIn("%", node.value, path.name)
+
+    def test_no_two_files_import_from_each_other(self):
+        needs = {}
+        for path in source_files():
+            nodes = [node for node in ast.walk(ast.parse(path.read_text())) if isinstance(node, ast.ImportFrom)]
+            needs[f"withincall.{path.stem}"] = {node.module for node in nodes}
+        while needs:
+            free = [name for name in needs if not needs[name] & set(needs)]
+            self.assertNotEqual(free, [], sorted(needs))
+            for name in free:
+                del needs[name]
