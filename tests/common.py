@@ -12,6 +12,15 @@ from withincall.nets import Pipeline, Ring
 NEVER_NUMBERS = (-1, -2, True, False, None, "0", "", 0.0, 1.0, (0,), [0], b"0", 10 ** 5000)
 
 
+
+class Same:
+    """An object that is equal to everything, and yet is no stage, no word and no row."""
+
+    def __eq__(self, other):
+        return True
+
+
+SAME = Same()
 # No move of any net.
 NEVER_MOVES = (
     None, True, 0, "advance", "+0", b"+0", (), (0,), ("advance",), (0, "advance", 1), (0, "advance", "done"),
@@ -19,7 +28,8 @@ NEVER_MOVES = (
     (0, ["advance"]), (0, "Advance"), (0, "advance "), (0, "advanc"), (0, ""), (0, "roll back"),
     (0, b"advance"), (0, "done"), (True, "advance"), (False, "rollback"), (None, "advance"),
     ("0", "advance"), (0.0, "advance"), ((0,), "advance"), ([0], "advance"), (-1, "advance"),
-    (-1, "rollback"), (10 ** 5000, "advance"), ((0, "advance"),), ((0, "advance"), (0, "advance")))
+    (-1, "rollback"), (10 ** 5000, "advance"), ((0, "advance"),), ((0, "advance"), (0, "advance")),
+    SAME, (SAME, "advance"), (0, SAME), (SAME, SAME))
 KINDS = ("advance", "rollback")
 
 

@@ -6,7 +6,7 @@ import inspect
 import pathlib
 import unittest
 
-from withincall import moves, nets
+from withincall import boxes, moves, nets
 
 FOLDER = pathlib.Path(__file__).resolve().parent.parent / "withincall"
 
@@ -17,6 +17,9 @@ CLASSES = {
                 "without", "summary", "__eq__"),
         "Pipeline": ("__init__", "row", "is_ring", "resized", "mirrored", "summary"),
         "Ring": ("__init__", "is_ring", "resized", "mirrored", "summary"),
+    },
+    "boxes": {
+        "Box": ("__init__", "full", "exactly", "narrowed", "__contains__", "__and__", "__eq__", "__bool__"),
     },
 }
 FUNCTIONS = {
@@ -29,6 +32,9 @@ FUNCTIONS = {
     "reach": ("objections", "is_objection", "reaches", "distance", "first_moves", "safe_moves",
               "plan", "is_plan"),
     "sightings": ("first_break", "longest_story", "story_cost"),
+    "logs": ("audit", "repairs"),
+    "lattice": ("greatest", "least", "nearest", "why_none", "is_certificate"),
+    "extents": ("extent", "gap_extent", "soonest", "live_moves"),
 }
 LIBRARY = ("__future__", "heapq", "math", "itertools", "collections")
 
@@ -52,6 +58,8 @@ class TestInterface(unittest.TestCase):
         self.assertIsInstance(vars(nets.Net)["is_capacity"], staticmethod)
         self.assertIsInstance(vars(nets.Net)["slots"], property)
         self.assertIsInstance(vars(nets.Pipeline)["row"], classmethod)
+        self.assertIsInstance(vars(boxes.Box)["full"], staticmethod)
+        self.assertIsInstance(vars(boxes.Box)["exactly"], staticmethod)
 
     def test_bases(self):
         self.assertEqual(nets.Pipeline.__bases__, (nets.Net,))

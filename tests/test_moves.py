@@ -4,7 +4,7 @@ import inspect
 import random
 
 from tests.common import (
-    KINDS, NEVER_MOVES, Case, behind, long_net, may_be_made, moves_of, random_nets, random_state, search,
+    KINDS, NEVER_MOVES, SAME, Case, behind, long_net, may_be_made, moves_of, random_nets, random_state, search,
     small_net)
 from withincall.errors import Blocked, InvalidMove, InvalidState
 from withincall.moves import (
@@ -324,7 +324,7 @@ class TestCheckLog(MoveCase):
             None, 0, "done", (), (0, "advance"), (*line, 1), list(line), ("advance", 0, "done"), (line,),
             (0, "done", "advance"), (0, "advance", "advance"), (0, "advance", "Done"), (0, "advance", ""),
             (0, "advance", None), (0, "advance", True), (0, "advance", ["done"]), (0, "advance", b"done"),
-            (0, "advance", ("done",)), (3, "advance", "done"), (0, "done", "done")]
+            (0, "advance", ("done",)), (3, "advance", "done"), (0, "done", "done"), SAME, (0, "advance", SAME)]
         pairs = [value for value in NEVER_MOVES if isinstance(value, tuple) and len(value) == 2]
         wrong = wrong + [(*value, "done") for value in pairs] + [(value, "done") for value in pairs]
         for value in wrong:

@@ -4,7 +4,7 @@ import itertools
 import random
 
 from tests.common import (
-    NEVER_MOVES, NEVER_NUMBERS, Case, all_states, behind, long_net, may_be_made, moves_of, random_nets,
+    NEVER_MOVES, NEVER_NUMBERS, SAME, Case, all_states, behind, long_net, may_be_made, moves_of, random_nets,
     random_state, search, small_net)
 from withincall import reach
 from withincall.errors import InvalidState, TooLarge, Unreachable
@@ -154,8 +154,10 @@ class TestObjections(ReachCase):
         values = (
             None, True, 0, 1, "source", "jammed", b"jammed", (), ("jammed",), ("jammed", 1, 1), ["jammed", 1],
             {"jammed": 1}, (1, "jammed"), (("jammed", 1),), ("jammed", (1,)), ("jammed", [1]), ("jammed", "1"),
-            ("Jammed", 1), ("jammed ", 1), ("", 1), (None, 1), (True, 1), (["jammed"], 1), (b"jammed", 1), ("jammed", {}),
-            objections(ROW, (2, 2, 0), (2, 2, 1)), ("jammed", 0), ("jammed", 2), ("source", 1), ("orphan", 1), ("sink", 1))
+            SAME, (SAME, 1), ("jammed", SAME), ("Jammed", 1), ("jammed ", 1), ("", 1),
+            (None, 1), (True, 1), (["jammed"], 1), (b"jammed", 1), ("jammed", {}),
+            objections(ROW, (2, 2, 0), (2, 2, 1)), ("jammed", 0), ("jammed", 2), ("source", 1),
+            ("orphan", 1), ("sink", 1))
         for value in (*values, *[("jammed", number) for number in NEVER_NUMBERS]):
             self.assertIs(is_objection(ROW, (2, 2, 0), (2, 2, 1), value), False)
             self.assertIs(is_objection(ROW, (2, 2, 0), (2, 2, 0), value), False)

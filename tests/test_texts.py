@@ -183,6 +183,9 @@ class TestPipelineLines(TextCase):
         for first, second in (("1 > 2", "0 > 3"), ("1 > 3", "1 > 2"), ("1 > 2", "1 > 2"), ("0 > 2", "0 > 1")):
             for capacity in (1, 2, 999):
                 self.bad_net(3, f"pipeline 5\n{first} : 2\n{second} : {capacity}\n4 > 4 : 1")
+        # Each line is compared with the one before it, not with the first one.
+        self.bad_net(4, "pipeline 5\n0 > 1 : 1\n1 > 3 : 1\n1 > 2 : 1")
+        self.bad_net(5, "pipeline 5\n0 > 1 : 1\n1 > 2 : 1\n3 > 4 : 1\n2 > 3 : 1")
         # As texts, 10 would come before 2.
         self.assertEqual(read_net("pipeline 12\n2 > 9 : 1\n2 > 10 : 1\n10 > 11 : 1").channels,
                          ((2, 9, 1), (2, 10, 1), (10, 11, 1)))
@@ -282,7 +285,8 @@ class TestReadingStatesAndMoves(TextCase):
             self.bad_text(1, read_state, ROW, f"0 0 {digits}")
 
     def test_no_moves(self):
-        for text in (" ", "+", "-", "0", "+ 0", "+0 ", " +0", "+0  -1", "+0\n", "\n", "\n+0", "+0\n-1", "++0", "+-0", "--1",
+        for text in (" ", "+", "-", "0", "+ 0", "+0 ", " +0", "+0  -1", "+0\n", "\n", "\n+0", "+0\n-1", "++0", "+-0",
+                     "--1",
                      "+3", "-3", "+40", "+999", "+1000", "0+", "+0-1", "+0,-1", "advance", "a0", "*1", "+1 3", "+1 -3"):
             self.bad_text(1, read_moves, ROW, text)
         for word in NO_NUMBERS:

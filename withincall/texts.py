@@ -127,7 +127,7 @@ def _read_ring(stages, lines):
     capacities = []
     for at, line in enumerate(lines[1:]):
         channel = _read_channel(stages, line)
-        if channel is None or at == stages or channel[:2] != (at, (at + 1) % stages):
+        if channel is None or channel[:2] != (at, (at + 1) % stages):
             raise InvalidText(at + 2)
         capacities.append(channel[2])
     if len(capacities) < stages:
