@@ -134,6 +134,16 @@ def search(net, start):
     return found
 
 
+def lively_case(chance, most):
+    """A small net and a start, and the search from it: of several nets the one in which most states are reached."""
+    cases = []
+    for _ in range(6):
+        net = small_net(chance)
+        start = random_state(chance, net, most)
+        cases.append((net, start, search(net, start)))
+    return max(cases, key=lambda case: min(len(case[2]), 400))
+
+
 def long_net(many=120, capacity=999):
     """A pipeline of 40 stages in a row, with more channels beside the row."""
     row = [(stage, stage + 1) for stage in range(39)]

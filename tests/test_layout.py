@@ -6,7 +6,7 @@ import inspect
 import pathlib
 import unittest
 
-from withincall import boxes, moves, nets
+from withincall import boxes, classes, moves, nets, order
 
 FOLDER = pathlib.Path(__file__).resolve().parent.parent / "withincall"
 
@@ -20,6 +20,10 @@ CLASSES = {
     },
     "boxes": {
         "Box": ("__init__", "full", "exactly", "narrowed", "__contains__", "__and__", "__eq__", "__bool__"),
+    },
+    "order": {
+        "MoveOrder": ("__init__", "total", "depth", "steps", "needs", "reason", "comes_before", "round_of",
+                      "latest_round", "rounds", "critical_chain", "plans", "number_of_plans", "is_order", "are_rounds"),
     },
 }
 FUNCTIONS = {
@@ -35,6 +39,11 @@ FUNCTIONS = {
     "logs": ("audit", "repairs"),
     "lattice": ("greatest", "least", "nearest", "why_none", "is_certificate"),
     "extents": ("extent", "gap_extent", "soonest", "live_moves"),
+    "recovery": ("conflicts", "may_rise", "may_fall", "rollback_line", "replay_line", "is_recoverable", "cheapest",
+                 "cost_certificate", "shown_cost"),
+    "classes": ("mutual", "hard_channels", "fixed_stages", "class_floor", "class_ceiling", "is_two_way", "is_dead",
+                "is_settled", "members", "exits", "class_size", "class_rank", "class_member"),
+    "capacity": ("needed", "widened", "extra_slots"),
 }
 LIBRARY = ("__future__", "heapq", "math", "itertools", "collections")
 
@@ -60,6 +69,8 @@ class TestInterface(unittest.TestCase):
         self.assertIsInstance(vars(nets.Pipeline)["row"], classmethod)
         self.assertIsInstance(vars(boxes.Box)["full"], staticmethod)
         self.assertIsInstance(vars(boxes.Box)["exactly"], staticmethod)
+        self.assertIsInstance(vars(order.MoveOrder)["total"], property)
+        self.assertIsInstance(vars(order.MoveOrder)["depth"], property)
 
     def test_bases(self):
         self.assertEqual(nets.Pipeline.__bases__, (nets.Net,))
@@ -72,7 +83,8 @@ class TestInterface(unittest.TestCase):
                 self.assertEqual(getattr(module, name).__module__, f"withincall.{file}")
 
     def test_generators(self):
-        self.assertTrue(inspect.isgeneratorfunction(moves.trace))
+        for call in (moves.trace, order.MoveOrder.plans, classes.members, classes.exits):
+            self.assertTrue(inspect.isgeneratorfunction(call))
 
 
 class TestFiles(unittest.TestCase):

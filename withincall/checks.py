@@ -1,6 +1,9 @@
-"""What several modules ask of a plain value."""
+"""What several modules ask of plain values."""
 
-from withincall.errors import NotFound
+from withincall.errors import NotFound, TooLarge
+
+# The functions that go through all of something go through no more.
+MOST_CASES = 20000
 
 
 def is_between(value, low, high):
@@ -12,3 +15,12 @@ def check_number(value, many):
     """Raise NotFound if the value is not an integer from 0 to many - 1."""
     if not is_between(value, 0, many - 1):
         raise NotFound(value)
+
+
+def check_product(factors):
+    """Raise TooLarge if the product of the factors is more than the most cases."""
+    size = 1
+    for factor in factors:
+        size *= factor
+    if size > MOST_CASES:
+        raise TooLarge(size, MOST_CASES)

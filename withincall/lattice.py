@@ -152,14 +152,14 @@ def greatest(net, box, *starts, goal=None, clean=False):
 def least(net, box, *starts, goal=None, clean=False):
     """The least chosen state. Raise NoState if no state is chosen."""
     wanted = _checked_wanted(net, box, starts, goal, clean)
-    return negated(caps_below(_caps(wanted)).bounds)
+    return tightened(_caps(wanted)).floors
 
 
 def nearest(net, box, start, *, goal=None):
     """The chosen state that is nearest to the start. Raise NoState if no state is chosen."""
     wanted = _checked_wanted(net, box, (start,), goal, False)
-    caps = _caps(wanted)
-    return clamped(start, negated(caps_below(caps).bounds), caps.bounds)
+    caps = tightened(_caps(wanted))
+    return clamped(start, caps.floors, caps.bounds)
 
 
 def why_none(net, box, *starts, goal=None, clean=False):
@@ -190,7 +190,12 @@ def is_certificate(net, certificate, box, *starts, goal=None, clean=False):
 
 def reached_caps(net, start):
     """The caps of the states that are reached from a checked start. The start itself is one."""
-    return _caps(Wanted(net, Box.full(net.stages), (start,), None, False))
+    return tightened(_caps(Wanted(net, Box.full(net.stages), (start,), None, False)))
+
+
+def tightened(caps):
+    """The same caps with the least state that they allow as the floors. They must allow a state."""
+    return Caps(caps.bounds, negated(caps_below(caps).bounds), caps.links)
 
 
 def caps_below(caps):

@@ -54,12 +54,9 @@ def safe_moves(net, start, target):
 
 def plan(net, start, target):
     """The first plan in ascending order. Raise Unreachable or TooLarge if there is none to be had."""
-    size = distance(net, start, target)
-    if size > MOST_MOVES:
-        raise TooLarge(size, MOST_MOVES)
     state = start
     moves = []
-    for _ in range(size):
+    for _ in range(plan_length(net, start, target)):
         move = _first_move(net, state, target)
         moves.append(move)
         state = state_behind(state, move)
@@ -80,6 +77,14 @@ def is_plan(net, start, target, moves):
     return state == target
 
 
+def plan_length(net, start, target):
+    """The distance. Raise TooLarge if it is more than the most moves of a plan."""
+    size = distance(net, start, target)
+    if size > MOST_MOVES:
+        raise TooLarge(size, MOST_MOVES)
+    return size
+
+
 def all_objections(net, start, target):
     """The objections between two states that have been checked, in ascending order."""
     channels = list(range(len(net.channels)))
@@ -87,6 +92,12 @@ def all_objections(net, start, target):
     if net.is_ring():
         found = found + _range_objections(start, target)
     return tuple(sorted(found))
+
+
+def draws_from(start, target, channel):
+    """True if some moves that lead from the start to the target draw from the channel."""
+    producer, consumer, _ = channel
+    return target[producer] < start[producer] or target[consumer] > start[consumer]
 
 
 def moves_between(start, target):
@@ -109,8 +120,8 @@ def _channel_objections(net, start, target, channels):
     """The objections that these channels make."""
     found = []
     for channel in channels:
-        producer, consumer, capacity = net.channels[channel]
-        if target[producer] < start[producer] or target[consumer] > start[consumer]:
+        if draws_from(start, target, net.channels[channel]):
+            producer, consumer, capacity = net.channels[channel]
             if start[producer] - start[consumer] > capacity:
                 found.append(("jammed", channel))
             if target[producer] < target[consumer]:
