@@ -5,6 +5,9 @@ import random
 import time
 import unittest
 
+from withincall.boxes import Box
+from withincall.errors import NoState
+from withincall.lattice import nearest
 from withincall.nets import Pipeline, Ring
 
 # None of these is a stage, a channel or an item, whatever the net. Numbers that are too great
@@ -142,6 +145,41 @@ def lively_case(chance, most):
         start = random_state(chance, net, most)
         cases.append((net, start, search(net, start)))
     return max(cases, key=lambda case: min(len(case[2]), 400))
+
+
+def rough_case(chance, most, *capacities):
+    """A net of up to seven stages, and a start with counters up to the given one that is mostly not clean."""
+    stages = chance.randint(3, 7)
+    channels = [(low, high, chance.choice(capacities)) for high in range(stages)
+                for low in range(high) if low + 1 == high or chance.random() < 0.3]
+    slope = [most - stage * most // stages for stage in range(stages)]
+    start = [min(most, max(0, counter + chance.randint(-most // 2, most // 2))) for counter in slope]
+    return Pipeline(stages, *channels), tuple(start)
+
+
+def nearest_within(net, start, stage, windows):
+    """The distance and the nearest reached state in which the loads of some channels of the stage lie in their windows.
+
+    All counters of the stage are gone through, with a box for each of them.
+    """
+    found = []
+    for counter in range(max(start) + 1):
+        box = Box.full(net.stages).narrowed(stage, low=counter, high=counter)
+        for channel, (low, high) in windows.items():
+            producer, consumer, _ = net.channels[channel]
+            if stage == consumer:
+                lows, highs, other = counter + low, counter + high, producer
+            else:
+                lows, highs, other = counter - high, counter - low, consumer
+            box = box.narrowed(other, low=min(999, max(0, lows)), high=max(0, min(999, highs)))
+            if lows > 999 or highs < 0:
+                box = box.narrowed(other, low=1, high=0)
+        try:
+            state = nearest(net, box, start)
+        except NoState:
+            continue
+        found.append((sum(abs(a - b) for a, b in zip(start, state)), state))
+    return min(found, default=None)
 
 
 def long_net(many=120, capacity=999):

@@ -59,7 +59,8 @@ class TestHardAndFixed(Case):
 
     def test_each_condition(self):
         for state, hard, fixed in (((2, 1, 0), (), (0, 2)), ((2, 2, 2), (), (0, 2)), ((4, 2, 0), (), (0, 2)),
-                                   ((5, 2, 0), (0,), (0, 1, 2)), ((2, 3, 1), (0,), (0, 1, 2)), ((2, 2, 3), (1,), (0, 1, 2)),
+                                   ((5, 2, 0), (0,), (0, 1, 2)), ((2, 3, 1), (0,), (0, 1, 2)),
+                                   ((2, 2, 3), (1,), (0, 1, 2)),
                                    ((5, 0, 1), (0, 1), (0, 1, 2))):
             self.assertEqual(hard_channels(ROW, state), hard)
             self.assertEqual(fixed_stages(ROW, state), fixed)
@@ -159,7 +160,8 @@ class TestSmallNets(Case):
 
     def test_floors_have_no_two_way_rollbacks(self):
         for net, start, _, _ in self.cases:
-            free = [move for move in allowed_moves(net, start) if move[1] == "rollback" and is_two_way(net, start, move)]
+            free = [move for move in allowed_moves(net,
+                                                   start) if move[1] == "rollback" and is_two_way(net, start, move)]
             self.assertIs(class_floor(net, start) == start, free == [])
 
     def test_exits_and_settled_states(self):
@@ -326,7 +328,8 @@ class TestErrors(Case):
             self.fails(InvalidMove, {}, is_two_way, ROW, START, value)
         for move, channels in (((0, "advance"), ()), ((2, "rollback"), ())):
             self.fails(Blocked, {"move": move, "channels": channels, "at": 0}, is_two_way, ROW, START, move)
-        self.fails(Blocked, {"move": (1, "advance"), "channels": (0,), "at": 0}, is_two_way, ROW, (1, 1, 0), (1, "advance"))
+        self.fails(Blocked, {"move": (1, "advance"), "channels": (0,), "at": 0}, is_two_way, ROW, (1, 1, 0),
+                   (1, "advance"))
 
 
 class TestWork(Case):
@@ -361,6 +364,7 @@ class TestWholeProgram(Case):
 
     def test_rows_of_results_are_tuples(self):
         found = list(exits(ROW, START))
-        for row in (hard_channels(ROW, START), fixed_stages(ROW, START), class_floor(ROW, START), class_ceiling(ROW, START),
+        for row in (hard_channels(ROW, START), fixed_stages(ROW, START), class_floor(ROW, START),
+                    class_ceiling(ROW, START),
                     *members(ROW, START), class_member(ROW, START, 0), *found, *found[0]):
             self.assertIs(type(row), tuple)

@@ -3,7 +3,8 @@
 import random
 
 from tests.common import (
-    NEVER_MOVES, NEVER_NUMBERS, Case, behind, long_net, may_be_made, moves_of, random_state, search, small_net)
+    NEVER_MOVES, NEVER_NUMBERS, Case, behind, long_net, may_be_made, moves_of, nearest_within, random_state, rough_case,
+    search, small_net)
 from withincall.errors import InvalidMove, InvalidState, NotFound
 from withincall.extents import extent, gap_extent, live_moves, soonest
 from withincall.moves import can_move
@@ -136,6 +137,37 @@ class TestSoonest(Case):
         net = Pipeline(4, (0, 1, 9), (1, 2, 9), (2, 3, 9))
         start = (5, 3, 3, 1)
         self.assertEqual(soonest(net, start, (1, "rollback")), (1, (5, 3, 2, 1)))
+
+    def test_far_soonest_states_of_rough_starts(self):
+        chance = random.Random(85)
+        sizes = []
+        for k in range(150):
+            most = (12, 40, 90)[k % 3]
+            net, start = rough_case(chance, most, 3, most // 3, most // 2, most, most)
+            for move in chance.sample(moves_of(net), 4):
+                side = net.incoming(move[0]) if move[1] == "advance" else net.outgoing(move[0])
+                windows = {channel: (1, net.channels[channel][2]) for channel in side}
+                expected = nearest_within(net, start, move[0], windows) if side else None
+                self.assertEqual(soonest(net, start, move), expected)
+                sizes.append(expected[0] if expected else 0)
+        self.assertGreater(len([size for size in sizes if size > 20]), 10)
+
+    def test_two_ways_of_which_the_far_one_looks_better_at_first(self):
+        ring = Ring(6, 6, 2, 6, 12, 12, 6)
+        net = Pipeline(7, (0, 1, 15), (0, 2, 30), (0, 3, 15), (0, 4, 15), (0, 6, 15), (1, 3, 30), (1, 5, 15),
+                       (2, 4, 30),
+                       (2, 5, 30), (3, 4, 30), (3, 5, 15), (4, 5, 2), (5, 6, 30))
+        for other, start, move, expected in (
+                (ring, (11, 6, 2, 7, 8, 1, 11), (2, "rollback"), (8, (11, 8, 8, 7, 8, 1, 11))),
+                (ring, (11, 6, 2, 7, 8, 1, 11), (3, "advance"), (8, (11, 8, 8, 7, 8, 1, 11))),
+                (Ring(30, 15, 2, 2, 30, 15, 15), (9, 5, 16, 18, 21, 13, 22), (2, "rollback"),
+                 (9, (9, 5, 16, 15, 15, 13, 22))),
+                (Ring(2, 2, 12, 12, 2, 12, 6), (2, 4, 9, 2, 3, 7, 1), (0, "rollback"), (7, (5, 4, 9, 2, 3, 7, 5))),
+                (net, (13, 5, 12, 1, 11, 26, 1), (4, "advance"), (18, (13, 12, 12, 12, 11, 26, 1)))):
+            side = other.incoming(move[0]) if move[1] == "advance" else other.outgoing(move[0])
+            windows = {channel: (1, other.channels[channel][2]) for channel in side}
+            self.assertEqual(nearest_within(other, start, move[0], windows), expected)
+            self.assertEqual(soonest(other, start, move), expected)
 
     def test_it_is_a_pair_of_a_distance_and_a_reached_state(self):
         chance = random.Random(83)

@@ -6,7 +6,7 @@ import inspect
 import pathlib
 import unittest
 
-from withincall import boxes, classes, moves, nets, order
+from withincall import boxes, classes, desk, evidence, moves, nets, order, rows
 
 FOLDER = pathlib.Path(__file__).resolve().parent.parent / "withincall"
 
@@ -24,6 +24,18 @@ CLASSES = {
     "order": {
         "MoveOrder": ("__init__", "total", "depth", "steps", "needs", "reason", "comes_before", "round_of",
                       "latest_round", "rounds", "critical_chain", "plans", "number_of_plans", "is_order", "are_rounds"),
+    },
+    "evidence": {
+        "Evidence": ("__init__", "note_move", "note_reach", "note_log", "noted", "observation", "span", "is_known",
+                     "fits", "foretell", "foretell_reach", "fitting", "twin"),
+    },
+    "rows": {
+        "Census": ("__init__", "many", "rank", "state_at"),
+    },
+    "desk": {
+        "Desk": ("__init__", "net", "state", "moves_made", "limit", "advance", "rollback", "run", "go", "enter",
+                 "recover", "retune", "undo", "redo", "history", "set_limit", "attempt", "table", "watch", "unwatch",
+                 "status", "advice", "statuses", "twin", "__contains__"),
     },
 }
 FUNCTIONS = {
@@ -44,6 +56,8 @@ FUNCTIONS = {
     "classes": ("mutual", "hard_channels", "fixed_stages", "class_floor", "class_ceiling", "is_two_way", "is_dead",
                 "is_settled", "members", "exits", "class_size", "class_rank", "class_member"),
     "capacity": ("needed", "widened", "extra_slots"),
+    "twins": ("same_shape", "parting", "alike"),
+    "rows": ("count_dead", "count_clean", "count_classes", "count_pairs", "nearest_dead"),
 }
 LIBRARY = ("__future__", "heapq", "math", "itertools", "collections")
 
@@ -69,8 +83,10 @@ class TestInterface(unittest.TestCase):
         self.assertIsInstance(vars(nets.Pipeline)["row"], classmethod)
         self.assertIsInstance(vars(boxes.Box)["full"], staticmethod)
         self.assertIsInstance(vars(boxes.Box)["exactly"], staticmethod)
-        self.assertIsInstance(vars(order.MoveOrder)["total"], property)
-        self.assertIsInstance(vars(order.MoveOrder)["depth"], property)
+        for found, names in ((order.MoveOrder, ("total", "depth")), (evidence.Evidence, ("noted", "is_known")),
+                             (rows.Census, ("many",)), (desk.Desk, ("net", "state", "moves_made", "limit"))):
+            for name in names:
+                self.assertIsInstance(vars(found)[name], property)
 
     def test_bases(self):
         self.assertEqual(nets.Pipeline.__bases__, (nets.Net,))
@@ -83,7 +99,7 @@ class TestInterface(unittest.TestCase):
                 self.assertEqual(getattr(module, name).__module__, f"withincall.{file}")
 
     def test_generators(self):
-        for call in (moves.trace, order.MoveOrder.plans, classes.members, classes.exits):
+        for call in (moves.trace, order.MoveOrder.plans, classes.members, classes.exits, evidence.Evidence.fitting):
             self.assertTrue(inspect.isgeneratorfunction(call))
 
 

@@ -314,7 +314,8 @@ class TestRounds(Case):
     def test_more_rounds_than_the_depth(self):
         order = paired(1, 2)
         self.assertEqual(order.rounds(), (((1, 1), (3, 1)), ((3, 2),)))
-        self.assertEqual((order.latest_round((1, 1)), order.latest_round((3, 1)), order.latest_round((3, 2))), (2, 1, 2))
+        self.assertEqual((order.latest_round((1, 1)), order.latest_round((3, 1)), order.latest_round((3, 2))),
+                         (2, 1, 2))
         for rounds in ((((3, 1), (1, 1)), ((3, 2),)), (((3, 1),), ((1, 1), (3, 2))), (((3, 1),), ((3, 2), (1, 1))),
                        (((1, 1),), ((3, 1),), ((3, 2),)), (((3, 1),), ((3, 2),), ((1, 1),))):
             self.assertIs(order.are_rounds(rounds), True)
@@ -338,7 +339,8 @@ class TestValuesOfAnyKind(Case):
         rounds = (((1, 1), (3, 1)), ((3, 2),))
         self.assertIs(order.is_order(row), True)
         self.assertIs(order.are_rounds(rounds), True)
-        never = [None, True, 3, "", "row", [], {}, list(row), {step: True for step in row}, SAME, (SAME,) * 3, (None,) * 3,
+        never = [None, True, 3, "", "row", [], {}, list(row), {step: True for step in row}, SAME, (SAME,) * 3,
+                 (None,) * 3,
                  10 ** 5000]
         for value in never + [rounds, ([1, 1], (3, 1), (3, 2)), ((1, 1, 1), (3, 1), (3, 2)), ("11", (3, 1), (3, 2))]:
             self.assertIs(order.is_order(value), False)
@@ -374,8 +376,9 @@ class TestErrors(Case):
 
     def test_no_steps_of_the_order(self):
         order = MoveOrder(ROW, (2, 1, 0), (2, 2, 2))
-        bad = [None, True, 0, 1, "", "11", (), (1,), (1, 1, 1), [1, 1], {1: 1}, (0, 1), (1, 0), (1, 2), (2, 3), (2, -1), (-2, 1),
-               (3, 1), (2, True), (True, 1), (2, None), (2, "1"), ("2", 1), (2, 1.0), (2.0, 1), ((2,), 1), (2, (1,)), ((2, 1),),
+        bad = [None, True, 0, 1, "", "11", (), (1,), (1, 1, 1), [1, 1], {1: 1}, (0, 1), (1, 0), (1, 2), (2, 3),
+               (2, -1), (-2, 1), (3, 1), (2, True), (True, 1), (2, None), (2, "1"), ("2", 1), (2, 1.0), (2.0, 1),
+               ((2,), 1), (2, (1,)), ((2, 1),),
                (2, 10 ** 5000), (10 ** 5000, 1), (2, "advance"), SAME, (SAME, 1), (2, SAME)]
         for value in bad:
             for call in (order.needs, order.round_of, order.latest_round):
@@ -397,8 +400,10 @@ class TestWork(Case):
     def test_large_nets(self):
         dense = Pipeline(40, *[(a, b, 999) for b in range(16) for a in range(b)])
         for net, start, target in (
-                (long_net(), (999,) + (949,) * 39, (999,) * 40), (long_net(capacity=1), (999,) + (998,) * 39, (999,) * 40),
-                (dense, (999,) + (866,) * 15 + (0,) * 24, (999,) * 16 + (0,) * 24), (WIDE, (999, 0, 0, 0), (999, 999, 999, 2)),
+                (long_net(), (999,) + (949,) * 39, (999,) * 40),
+                (long_net(capacity=1), (999,) + (998,) * 39, (999,) * 40),
+                (dense, (999,) + (866,) * 15 + (0,) * 24, (999,) * 16 + (0,) * 24),
+                (WIDE, (999, 0, 0, 0), (999, 999, 999, 2)),
                 (Ring(*[999] * 40), (0,) * 39 + (53,), (51,) * 39 + (53,)),
                 (Pipeline.row(*[1] * 39), (999,) + (998,) * 39, (999,) * 40)):
             order = self.quick(MoveOrder, net, start, target)
@@ -448,8 +453,10 @@ class TestWholeProgram(Case):
 
     def test_rows_of_results_are_tuples(self):
         order = MoveOrder(ROW, (2, 1, 0), (2, 2, 2))
-        for row in (order.steps(), *order.steps(), order.needs((2, 2)), order.needs((2, 1)), order.reason((2, 1), (1, 1)),
-                    order.rounds(), *order.rounds(), order.rounds()[0][0], order.critical_chain(), order.critical_chain()[0],
+        for row in (order.steps(), *order.steps(), order.needs((2, 2)), order.needs((2, 1)),
+                    order.reason((2, 1), (1, 1)),
+                    order.rounds(), *order.rounds(), order.rounds()[0][0], order.critical_chain(),
+                    order.critical_chain()[0],
                     next(order.plans()), next(order.plans())[0]):
             self.assertIs(type(row), tuple)
 

@@ -145,7 +145,8 @@ class TestLines(Case):
         self.assertEqual(replay_line(net, (5, 5, 4, 5, 2)), (5, 5, 5, 5, 2))
 
     def test_clean_states_are_their_own_lines(self):
-        for net, state in ((ROW, (5, 4, 3, 2)), (STUCK, (9, 5, 5, 0)), (Pipeline(2), (0, 9)), (Ring(1, 1, 1), (3, 3, 3)),
+        for net, state in ((ROW, (5, 4, 3, 2)), (STUCK, (9, 5, 5, 0)), (Pipeline(2), (0, 9)),
+                           (Ring(1, 1, 1), (3, 3, 3)),
                            (Pipeline(1), (7,))):
             self.assertEqual(rollback_line(net, state), state)
             self.assertEqual(replay_line(net, state), state)
@@ -212,7 +213,8 @@ class TestCheapest(Case):
         self.assertEqual(words_cost(net, state, certificate), cost)
 
     def test_clean_states(self):
-        for net, state in ((ROW, (5, 4, 3, 2)), (STUCK, (9, 5, 5, 0)), (Pipeline(2), (0, 9)), (Ring(1, 1, 1), (3, 3, 3)),
+        for net, state in ((ROW, (5, 4, 3, 2)), (STUCK, (9, 5, 5, 0)), (Pipeline(2), (0, 9)),
+                           (Ring(1, 1, 1), (3, 3, 3)),
                            (Pipeline(1), (7,)), (ROW, (0, 0, 0, 0)), (ROW, (999, 999, 999, 999))):
             self.check(net, state, state, 0)
             self.assertEqual(cost_certificate(net, state), ())
@@ -297,9 +299,10 @@ class TestCheapest(Case):
         # Stage 1 is in conflict with stage 4, stage 2 with 4 and 5, stage 3 with 5 and 6, and so on.
         for many in (2, 3, 4):
             ends = [(0, 1 + k) for k in range(many)] + [(1 + many + k, 1 + 2 * many) for k in range(many)]
-            for middle in ([(1 + k, 1 + many + k) for k in range(many)] + [(2 + k, 1 + many + k) for k in range(many - 1)],
-                           [(1 + k, 1 + many + k) for k in range(many)] + [(1 + k, 2 + many + k) for k in range(many - 1)]):
-                net = Pipeline(2 + 2 * many, *ends, *middle, capacity=999)
+            straight = [(1 + k, 1 + many + k) for k in range(many)]
+            for slanted in ([(2 + k, 1 + many + k) for k in range(many - 1)],
+                            [(1 + k, 2 + many + k) for k in range(many - 1)]):
+                net = Pipeline(2 + 2 * many, *ends, *straight, *slanted, capacity=999)
                 state = (7, *[0] * many, *[1] * many, 0)
                 self.check_layers(net, state, 1)
                 self.assertEqual(distance(net, state, cheapest(net, state)), many)
@@ -371,7 +374,8 @@ class TestShownCost(Case):
         self.assertEqual(self.cost((5, 8, ((1, 4), (2, 5)))), 8)
         self.assertEqual(self.cost((6, 6, ((1, 4), (1, 5)))), 2)
         self.assertEqual(self.cost((6, 6, ((1, 4), (1, 5), (2, 6)))), 3)
-        self.assertEqual(self.cost((4, 4, ((1, 4),)), (5, 5, ((1, 5),)), (7, 8, ((1, 4), (2, 5))), (9, 9, ((2, 6),))), 7)
+        self.assertEqual(self.cost((4, 4, ((1, 4),)), (5, 5, ((1, 5),)), (7, 8, ((1, 4), (2, 5))), (9, 9, ((2, 6),))),
+                         7)
         self.assertEqual(shown_cost(ROW, (0, 0, 0, 0), ()), 0)
 
     def test_not_every_valid_one_is_of_a_recoverable_state(self):
@@ -427,7 +431,8 @@ class TestShownCost(Case):
         bad = [None, True, 0, 8, "", "((5, 8, ((2, 5),)),)", [], {}, [band], {band: True}, band, (None,), ([],), ((),),
                (band, None), (band, ()), ([5, 8, pairs],), ((5, 8),), ((5, 8, pairs, 0),), ((5, 8, list(pairs)),),
                ((5, 8, {(2, 5): True}),), ((5, 8, ([2, 5],)),), ((5, 8, (2, 5)),), ((5, 8, ((2, 5, 0),)),),
-               ((5, 8, ((2,),)),), ((5, 8, ("25",)),), ((5, 8, None),), ((5, 8, SAME),), ((5, 8, (SAME,)),), (SAME,), SAME,
+               ((5, 8, ((2,),)),), ((5, 8, ("25",)),), ((5, 8, None),), ((5, 8, SAME),), ((5, 8, (SAME,)),), (SAME,),
+               SAME,
                ((5, 8, ((1, 4), [2, 5])),), ((5, 8, ((1, 4), SAME)),), ((5, 8, ((1, 4), (2, [5]))),),
                ((5, 8, ((2, SAME),)),), ((5, 8, ((SAME, 5),)),)]
         for value in (*NEVER_NUMBERS, SAME):
@@ -483,7 +488,8 @@ class TestErrors(Case):
     CALLS = (conflicts, rollback_line, replay_line, is_recoverable, cheapest, cost_certificate)
 
     def test_the_state_comes_first(self):
-        for state, position in ((None, None), ((2, 1), None), ((2, 1, 0, 1000), 3), ((2, True, -1, 0), 1), ("2100", None)):
+        for state, position in ((None, None), ((2, 1), None), ((2, 1, 0, 1000), 3), ((2, True, -1, 0), 1),
+                                ("2100", None)):
             for call in self.CALLS:
                 self.fails(InvalidState, {"position": position}, call, ROW, state)
             self.fails(InvalidState, {"position": position}, may_rise, ROW, state, None)
@@ -500,7 +506,8 @@ class TestWork(Case):
 
     def test_large_nets(self):
         chance = random.Random(100)
-        starts = [tuple([chance.randint(0, 999) for _ in range(40)]), tuple(range(999, -1, -25)), tuple(range(0, 1000, 25)),
+        starts = [tuple([chance.randint(0, 999) for _ in range(40)]), tuple(range(999, -1, -25)),
+                  tuple(range(0, 1000, 25)),
                   tuple([min(999, max(0, 990 - 24 * k + chance.randint(-90, 90))) for k in range(40)]),
                   (999,) * 20 + (0,) * 20, (0,) * 20 + (999,) * 20]
         met = 0
