@@ -285,6 +285,8 @@ class TestRetune(DeskCase):
             for channel in (0, 1):
                 self.unchanged(desk, InvalidNet, {"reason": "capacity", "position": channel}, desk.retune, channel,
                                capacity)
+            ring = Desk(Ring(1, 1, 1), (0, 0, 0))
+            self.unchanged(ring, InvalidNet, {"reason": "capacity", "position": 2}, ring.retune, 2, capacity)
 
 
 class TestHistory(DeskCase):

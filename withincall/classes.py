@@ -57,10 +57,7 @@ def is_dead(net, state):
 def is_settled(net, state):
     """True if the state is reached from every state that is reached from it."""
     check_state(net, state)
-    hard = {channel: True for channel in _hard_channels(net, state)}
-    fixed = {stage: True for stage in _fixed_stages(net, state)}
-    caps = _class_caps(net, state)
-    return not any([_is_exit(net, caps, move, hard, fixed) for move in all_moves(net)])
+    return not _exit_moves(net, state)
 
 
 def members(net, state):
@@ -73,8 +70,10 @@ def members(net, state):
 def exits(net, state):
     """Yield the pairs of a state of the class and a one-way move that is allowed in it, in ascending order."""
     check_state(net, state)
-    for member in _all_members(net, state):
-        for move in all_moves(net):
+    found = _all_members(net, state)
+    moves = _exit_moves(net, state)
+    for member in found:
+        for move in moves:
             if is_allowed(net, member, move) and not _leads_back(net, state_behind(member, move), move):
                 yield (member, move)
 
@@ -137,6 +136,14 @@ def _leads_back(net, state, move):
     """True if the opposite of the move that led to the state is allowed there."""
     stage, kind = move
     return is_allowed(net, state, (stage, other_kind(kind)))
+
+
+def _exit_moves(net, state):
+    """The moves that are allowed and one-way in some state of the class, in ascending order."""
+    hard = {channel: True for channel in _hard_channels(net, state)}
+    fixed = {stage: True for stage in _fixed_stages(net, state)}
+    caps = _class_caps(net, state)
+    return [move for move in all_moves(net) if _is_exit(net, caps, move, hard, fixed)]
 
 
 def _is_exit(net, caps, move, hard, fixed):

@@ -42,7 +42,7 @@ class Question:
         return [max(capacity, self.load_of(channel)) for channel, capacity in enumerate(capacities)]
 
     def bounded_channels(self):
-        """The channels whose load some capacities exceed and others do not, in ascending order."""
+        """The channels in question for whose load a capacity can be too small, in ascending order."""
         return [channel for channel in sorted(self._loads) if self._loads[channel] > 1]
 
 

@@ -90,13 +90,16 @@ class Band:
         waiting = list(earliers)
         while waiting:
             earlier = waiting.pop()
-            for later in [other for other in self._laters[earlier] if other not in laters]:
+            for later in self._laters[earlier]:
+                if later in laters:
+                    continue
                 laters[later] = earlier
                 if not self._falling[later] or not self._partners[later]:
                     return earliers, laters, later
-                for partner in [other for other in self._partners[later] if other not in earliers]:
-                    earliers[partner] = later
-                    waiting.append(partner)
+                for partner in self._partners[later]:
+                    if partner not in earliers:
+                        earliers[partner] = later
+                        waiting.append(partner)
         return earliers, laters, None
 
     def _add_pair(self, earliers, laters, later):
